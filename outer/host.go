@@ -32,6 +32,7 @@ func asked(o int) func(*reader) api.Throw {
 
 // answer does what is asked for; what comes of it.
 func (r *reader) answer(o int) step.Res {
+	// Done on another one: with a throw nothing is taken, neither cells nor a word of the text.
 	done := *r
 	e := asked(o)(&done)
 	if e == api.OK {
